@@ -1,0 +1,45 @@
+"""The calls: each takes texts and numbers, and gives back the list of numbers that is answered."""
+
+from nestarray.reading import check_length, look_at
+from nestarray.refusals import Refusal
+from nestarray.tokens import fault_position, tokens_of
+from nestarray.values import depth_of, extents_of, leaves_of, rank_of, size_of
+from nestarray.writing import text_of
+
+
+def where(v):
+    """0 if v is in form, else one more than the position where it isn't any more."""
+    return answered(lambda: where_answer(v))
+
+
+def plain(v):
+    """0, then v's text."""
+    return answered(lambda: [0] + text_of(look_at(v)))
+
+
+def measure(v):
+    """v's depth, then its rank, its size, and how many leaves it has."""
+    return answered(lambda: measure_answer(look_at(v)))
+
+
+def shape(v):
+    """0, then v's extents."""
+    return answered(lambda: [0] + extents_of(look_at(v)))
+
+
+def answered(work):
+    """What the work gives back, or the number alone of the refusal in which it ends."""
+    try:
+        return work()
+    except Refusal as refusal:
+        return [refusal.number]
+
+
+def where_answer(text):
+    check_length(text)
+    position = fault_position(text, tokens_of(text))
+    return [0 if position is None else position + 1]
+
+
+def measure_answer(value):
+    return [depth_of(value), rank_of(value), size_of(value), len(leaves_of(value))]
