@@ -4,6 +4,7 @@ from nestarray.reading import check_length, look_at
 from nestarray.refusals import Refusal
 from nestarray.tokens import fault_position, tokens_of
 from nestarray.values import depth_of, extents_of, leaves_of, rank_of, size_of
+from nestarray.works import come_out, disclosed, enclosed, skeleton_of
 from nestarray.writing import text_of
 
 
@@ -27,6 +28,26 @@ def shape(v):
     return answered(lambda: [0] + extents_of(look_at(v)))
 
 
+def leaves(v):
+    """0, then v's leaves."""
+    return answered(lambda: [0] + leaves_of(look_at(v)))
+
+
+def skeleton(v):
+    """0, then v with 0 for every number."""
+    return answered(lambda: outcome_answer(skeleton_of(look_at(v))))
+
+
+def enclose(v):
+    """0, then the array of the empty shape whose item is v (if v is a number, v)."""
+    return answered(lambda: outcome_answer(enclosed(look_at(v))))
+
+
+def disclose(v):
+    """0, then the item of v, whose rank has to be 0 (of a number it itself)."""
+    return answered(lambda: outcome_answer(disclosed(look_at(v))))
+
+
 def answered(work):
     """What the work gives back, or the number alone of the refusal in which it ends."""
     try:
@@ -43,3 +64,7 @@ def where_answer(text):
 
 def measure_answer(value):
     return [depth_of(value), rank_of(value), size_of(value), len(leaves_of(value))]
+
+
+def outcome_answer(value):
+    return [0] + text_of(come_out(value))

@@ -41,3 +41,10 @@ class LimitRefusal(Refusal):
 
     def __init__(self):
         Refusal.__init__(self, -5)
+
+
+class RankRefusal(Refusal):
+    """A value hasn't the rank that a work asks for."""
+
+    def __init__(self):
+        Refusal.__init__(self, -6)
