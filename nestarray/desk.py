@@ -1,10 +1,14 @@
-"""The calls: each takes texts and numbers, and gives back the list of numbers that is answered."""
+"""The calls: each takes texts and numbers, and gives back the list of numbers that is answered.
 
+Where a work is handed several things, they are reckoned from left to right: the first refusal counts.
+"""
+
+from nestarray.ordering import are_alike, are_same, first_of_two
 from nestarray.reading import check_length, look_at
 from nestarray.refusals import Refusal
 from nestarray.tokens import fault_position, tokens_of
 from nestarray.values import depth_of, extents_of, leaves_of, rank_of, size_of
-from nestarray.works import come_out, disclosed, enclosed, skeleton_of
+from nestarray.works import come_out, disclosed, enclosed, raveled, skeleton_of
 from nestarray.writing import text_of
 
 
@@ -48,6 +52,26 @@ def disclose(v):
     return answered(lambda: outcome_answer(disclosed(look_at(v))))
 
 
+def ravel(v):
+    """0, then the vector of v's items."""
+    return answered(lambda: outcome_answer(raveled(look_at(v))))
+
+
+def same(v, w):
+    """1 if v and w are the same value, else 0."""
+    return answered(lambda: truth_answer(are_same(look_at(v), look_at(w))))
+
+
+def like(v, w):
+    """1 if v and w differ in their numbers at most, else 0."""
+    return answered(lambda: truth_answer(are_alike(look_at(v), look_at(w))))
+
+
+def order(v, w):
+    """0 if v and w are the same, 1 if v is first, 2 if w is."""
+    return answered(lambda: [first_of_two(look_at(v), look_at(w))])
+
+
 def answered(work):
     """What the work gives back, or the number alone of the refusal in which it ends."""
     try:
@@ -68,3 +92,7 @@ def measure_answer(value):
 
 def outcome_answer(value):
     return [0] + text_of(come_out(value))
+
+
+def truth_answer(truth):
+    return [1 if truth else 0]

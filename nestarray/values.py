@@ -28,6 +28,10 @@ def array_of(extents, parts):
     return NestedArray(list(extents), list(parts))
 
 
+def vector_of(parts):
+    return array_of([len(parts)], parts)
+
+
 def is_number(value):
     return isinstance(value, int)
 

@@ -2,6 +2,7 @@
 
 from nestarray.refusals import LimitRefusal, RankRefusal
 from nestarray.values import array_of, extents_of, is_number, is_shape, is_within_limits, parts_of, rank_of
+from nestarray.values import vector_of
 
 
 def come_out(value):
@@ -32,3 +33,7 @@ def disclosed(value):
     if rank_of(value) != 0:
         raise RankRefusal()
     return parts_of(value)[0]
+
+
+def raveled(value):
+    return vector_of(parts_of(value))

@@ -100,36 +100,53 @@ REFUSED = (
 )
 
 
-class CallCase(unittest.TestCase):
+# A text for each refusal of a text that is looked at, in the order of the refusals.
+FIRST_REFUSED = tuple(next(pair for pair in REFUSED if pair[1] == refusal)
+                      for refusal in (LONG, FORM, BIG, SHAPE, LIMIT))
 
-    def ask(self, call, text):
-        """The answer to a text: asked twice, and what is handed in has to stay as it is."""
-        handed = UntouchedList(bytes_of(text))
-        first = call(handed)
-        again = call(bytes_of(text))
-        self.assertEqual(handed, bytes_of(text))
+
+def handed_over(asked, kind=list):
+    """What is handed to a call for a text, or for a tuple of texts, lists and numbers."""
+    if not isinstance(asked, tuple):
+        asked = (asked,)
+    asked = [bytes_of(one) if isinstance(one, str) else one for one in asked]
+    return [kind(one) if isinstance(one, list) else one for one in asked]
+
+
+class CallCase(unittest.TestCase):
+    """Here asked is what a call is asked: its one text, or a tuple of texts, lists and numbers."""
+
+    def ask(self, call, asked):
+        """The answer: asked twice, and what is handed in has to stay as it is."""
+        handed = handed_over(asked, UntouchedList)
+        first = call(*handed)
+        again = call(*handed_over(asked))
+        self.assertEqual(handed, handed_over(asked))
         self.assertEqual(first, again)
         self.assertIs(type(first), list)
         self.assertEqual([number for number in first if type(number) is not int], [])
         return first
 
-    def assert_answer(self, call, text, answer):
-        with self.subTest(call=call.__name__, text=text[:60]):
-            self.assertEqual(self.ask(call, text), answer)
+    def assert_answer(self, call, asked, answer):
+        with self.subTest(call=call.__name__, asked=repr(asked)[:120]):
+            self.assertEqual(self.ask(call, asked), answer)
 
-    def assert_value(self, call, text, told):
-        self.assert_answer(call, text, [0] + bytes_of(told))
+    def assert_value(self, call, asked, told):
+        self.assert_answer(call, asked, [0] + bytes_of(told))
 
-    def assert_looks_at_text(self, call):
-        """The call refuses what every text that is looked at is refused for, and in that order."""
+    def assert_looks_at_text(self, call, before=(), behind=()):
+        """The call refuses what every text that is looked at is refused for, and in that order.
+
+        The text is handed over between what stands before it and what stands behind it.
+        """
         for text, refusal in REFUSED:
-            self.assert_answer(call, text, [refusal])
+            self.assert_answer(call, before + (text,) + behind, [refusal])
 
-    def assert_keeps_nothing(self, call, text):
+    def assert_keeps_nothing(self, call, asked, between=("[2: 1", "[1: [0 3:]]")):
         """An answer is a list of its own, and what was asked between two calls doesn't matter."""
-        first = call(bytes_of(text))
+        first = call(*handed_over(asked))
         kept = list(first)
         first.append(99)
-        call(bytes_of("[2: 1"))
-        call(bytes_of("[1: [0 3:]]"))
-        self.assertEqual(call(bytes_of(text)), kept)
+        for other in between:
+            call(*handed_over(other))
+        self.assertEqual(call(*handed_over(asked)), kept)

@@ -1,0 +1,30 @@
+"""The order of values: whether two are the same, and which of them is first."""
+
+from nestarray.values import is_number
+from nestarray.works import skeleton_of
+
+
+def standing_of(value):
+    """A tuple that stands to those of other values as the value, which isn't deep, stands to these.
+
+    Python puts tuples in order by the first place where they differ, so what counts first comes first.
+    """
+    if is_number(value):
+        return (0, value)
+    standings = [standing_of(part) for part in value.parts]
+    return (1, len(value.extents), tuple(value.extents), tuple(standings))
+
+
+def are_same(one, other):
+    return standing_of(one) == standing_of(other)
+
+
+def are_alike(one, other):
+    return are_same(skeleton_of(one), skeleton_of(other))
+
+
+def first_of_two(one, other):
+    """1 or 2 for the one that is first, 0 if they're the same."""
+    if are_same(one, other):
+        return 0
+    return 1 if standing_of(one) < standing_of(other) else 2
