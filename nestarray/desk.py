@@ -3,7 +3,9 @@
 Where a work is handed several things, they are reckoned from left to right: the first refusal counts.
 """
 
-from nestarray.ordering import are_alike, are_same, first_of_two
+from nestarray.itemwise import checked_kind, with_each
+from nestarray.ordering import are_alike, are_same, first_of_two, in_order
+from nestarray.paths import picked, replaced, steps_of
 from nestarray.reading import check_length, look_at
 from nestarray.refusals import Refusal
 from nestarray.tokens import fault_position, tokens_of
@@ -70,6 +72,26 @@ def like(v, w):
 def order(v, w):
     """0 if v and w are the same, 1 if v is first, 2 if w is."""
     return answered(lambda: [first_of_two(look_at(v), look_at(w))])
+
+
+def sort(v):
+    """0, then the vector of the items of v, which has to be a vector, in order."""
+    return answered(lambda: outcome_answer(in_order(look_at(v))))
+
+
+def pick(v, path):
+    """0, then the value to which the path leads from v on."""
+    return answered(lambda: outcome_answer(picked(look_at(v), steps_of(path))))
+
+
+def replace(v, path, w):
+    """0, then v in which w stands where the path leads."""
+    return answered(lambda: outcome_answer(replaced(look_at(v), steps_of(path), look_at(w))))
+
+
+def each(k, v):
+    """0, then the array of v's shape whose items are made of v's items, as the kind k tells."""
+    return answered(lambda: outcome_answer(with_each(checked_kind(k), look_at(v))))
 
 
 def answered(work):

@@ -1,6 +1,7 @@
-"""The order of values: whether two are the same, and which of them is first."""
+"""The order of values: whether two are the same, which of them is first, and vectors in order."""
 
-from nestarray.values import is_number
+from nestarray.refusals import RankRefusal
+from nestarray.values import is_number, parts_of, rank_of, vector_of
 from nestarray.works import skeleton_of
 
 
@@ -28,3 +29,10 @@ def first_of_two(one, other):
     if are_same(one, other):
         return 0
     return 1 if standing_of(one) < standing_of(other) else 2
+
+
+def in_order(value):
+    """The vector of a vector's items in order."""
+    if rank_of(value) != 1:
+        raise RankRefusal()
+    return vector_of(sorted(parts_of(value), key=standing_of))

@@ -48,3 +48,31 @@ class RankRefusal(Refusal):
 
     def __init__(self):
         Refusal.__init__(self, -6)
+
+
+class IndexRefusal(Refusal):
+    """A number of an index is beyond its extent."""
+
+    def __init__(self):
+        Refusal.__init__(self, -7)
+
+
+class PathRefusal(Refusal):
+    """A list of numbers isn't a path."""
+
+    def __init__(self):
+        Refusal.__init__(self, -8)
+
+
+class AtomRefusal(Refusal):
+    """A step goes from a number."""
+
+    def __init__(self):
+        Refusal.__init__(self, -9)
+
+
+class KindRefusal(Refusal):
+    """No work is told by a number."""
+
+    def __init__(self):
+        Refusal.__init__(self, -12)

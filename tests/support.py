@@ -2,7 +2,8 @@
 
 import unittest
 
-LONG, FORM, BIG, SHAPE, LIMIT, RANK = -1, -2, -3, -4, -5, -6
+LONG, FORM, BIG, SHAPE, LIMIT, RANK, INDEX, PATH, ATOM = -1, -2, -3, -4, -5, -6, -7, -8, -9
+KIND = -12
 
 TOP = 10 ** 18
 

@@ -1,7 +1,9 @@
-"""Promises 9 to 12: ravel, same, like, order."""
+"""Promises 9 to 13: ravel, same, like, order, sort."""
 
-from nestarray.desk import like, order, ravel, same, skeleton
-from tests.support import BIG, FIRST_REFUSED, FORM, LIMIT, LONG, SHAPE, TOP, CallCase
+import itertools
+
+from nestarray.desk import like, order, ravel, same, skeleton, sort
+from tests.support import BIG, FIRST_REFUSED, FORM, LIMIT, LONG, RANK, SHAPE, TOP, CallCase
 from tests.support import bytes_of, chain, handed_over, sized, vector
 
 PAIR_CALLS = (same, like, order)
@@ -198,3 +200,78 @@ class OrderTest(CallCase):
         for one, other in pairs:
             self.assert_answer(order, (one, other), [1])
             self.assert_answer(order, (other, one), [2])
+
+
+class SortTest(CallCase):
+
+    def test_refusals_of_a_text(self):
+        self.assert_looks_at_text(sort)
+
+    def test_nothing_is_kept(self):
+        for text in ("[3: 2 1 3]", "[2: [2: 2 3] 1]", "[0:]", "7", "[0:", chain(9)):
+            self.assert_keeps_nothing(sort, text)
+
+    def test_rank(self):
+        for text in ("0", "_7", "[: 5]", "[: [2: 2 1]]", "[: [0:]]", "[1 1: 5]", "[2 1: 2 1]", "[1 2: 2 1]", "[0 0:]",
+                     "[3 0:]", "[1 1 1: 5]", "[0 3 0:]", "[1 1 1 2: 2 1]", "[0 0 0 0:]", "[: %s]" % chain(7),
+                     "[2 128:%s]" % (" 1" * 256)):
+            self.assert_answer(sort, text, [RANK])
+
+    def test_rank_stands_behind_the_refusals_of_the_text(self):
+        self.assert_answer(sort, "5" + " " * 8192, [LONG])
+        self.assert_answer(sort, "[1 1: 5", [FORM])
+        self.assert_answer(sort, "[1 1: %d]" % (TOP + 1), [BIG])
+        self.assert_answer(sort, "[1 2: 5]", [SHAPE])
+        self.assert_answer(sort, "[1 1: %s]" % chain(8), [LIMIT])
+
+    def test_vectors_of_numbers(self):
+        self.assert_value(sort, "[0:]", "[0:]")
+        self.assert_value(sort, "[1: _5]", "[1: _5]")
+        self.assert_value(sort, "[2: 2 1]", "[2: 1 2]")
+        self.assert_value(sort, "[6: 10 9 _9 0 _10 1]", "[6: _10 _9 0 1 9 10]")
+        self.assert_value(sort, "[5: %d 0 _%d 1 _1]" % (TOP, TOP), "[5: _%d _1 0 1 %d]" % (TOP, TOP))
+        self.assert_value(sort, "[3: [: 3] [: [: 2]] 1]", "[3: 1 2 3]")
+
+    def test_vectors_of_arrays(self):
+        self.assert_value(sort, "[2: [2: 2 1] [2: 1 9]]", "[2: [2: 1 9] [2: 2 1]]")
+        self.assert_value(sort, "[3: [0 0:] [2: 2 1] [: [0:]]]", "[3: [: [0:]] [2: 2 1] [0 0:]]")
+        self.assert_value(sort, "[3: [2: 1 1] [1: 9] [0:]]", "[3: [0:] [1: 9] [2: 1 1]]")
+        self.assert_value(sort, "[1: [2: 2 1]]", "[1: [2: 2 1]]")
+        self.assert_value(sort, "[2: [1: [2: 4 3]] [1: [2: 3 5]]]", "[2: [1: [2: 3 5]] [1: [2: 4 3]]]")
+
+    def test_vectors_of_both(self):
+        self.assert_value(sort, "[4: [0:] 5 [: [1: 1]] _5]", "[4: _5 5 [: [1: 1]] [0:]]")
+        self.assert_value(sort, "[3: [1: _9] %d 0]" % TOP, "[3: 0 %d [1: _9]]" % TOP)
+
+    def test_equal_items(self):
+        self.assert_value(sort, "[5: 2 1 2 1 2]", "[5: 1 1 2 2 2]")
+        self.assert_value(sort, "[4: 3 3 3 3]", "[4: 3 3 3 3]")
+        self.assert_value(sort, "[5: [0:] 1 [0:] [: 1] [ 0 : ]]", "[5: 1 1 [0:] [0:] [0:]]")
+        self.assert_value(sort, "[4: [2: 1 2] [2: 1 1] [2: 1 2] [2: 1 1]]", "[4: [2: 1 1] [2: 1 1] [2: 1 2] [2: 1 2]]")
+
+    def test_every_way_round(self):
+        parts = ("_3", "4", "[: [1: 9]]", "[1: [0:]]", "[2: 0 _1]", "[1 1: 2]")
+        for mixed in itertools.permutations(parts):
+            self.assertEqual(sort(bytes_of(vector(mixed))), [0] + bytes_of(vector(parts)), mixed)
+
+    def test_many_values(self):
+        parts = [text for text in ASCENDING if len(text) < 60]
+        self.assertGreater(len(parts), 70)
+        for step in (1, 2, 3, 5, 7):
+            mixed = [part for start in range(step) for part in parts[start::step]]
+            self.assert_value(sort, vector(mixed), vector(parts))
+            self.assert_value(sort, vector(mixed[::-1]), vector(parts))
+
+    def test_256_items(self):
+        ascending = vector([str(number) for number in range(1000, 1256)])
+        for factor in (1, 3, 77, 129, 255):
+            for start in (0, 5):
+                mixed = [str(1000 + (start + factor * place) % 256) for place in range(256)]
+                self.assert_value(sort, vector(mixed), ascending)
+        self.assert_value(sort, vector(["2", "1"] * 128), vector(["1"] * 128 + ["2"] * 128))
+        self.assert_value(sort, vector(["[0:]", "1"] * 128), vector(["1"] * 128 + ["[0:]"] * 128))
+
+    def test_as_large_and_as_deep_as_may_be(self):
+        halves = [vector(["1"] * 256), vector(["_2"] * 253)]
+        self.assert_value(sort, vector(halves), vector(halves[::-1]))
+        self.assert_value(sort, vector([chain(7), "[1: 6]", "9"]), vector(["9", "[1: 6]", chain(7)]))
