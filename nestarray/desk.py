@@ -3,9 +3,12 @@
 Where a work is handed several things, they are reckoned from left to right: the first refusal counts.
 """
 
-from nestarray.itemwise import checked_kind, with_each
+from nestarray.cells import mixed, split_up
+from nestarray.checks import checked_kind
+from nestarray.itemwise import with_each
 from nestarray.ordering import are_alike, are_same, first_of_two, in_order
 from nestarray.paths import picked, replaced, steps_of
+from nestarray.pervading import pervaded, pervaded_alone
 from nestarray.reading import check_length, look_at
 from nestarray.refusals import Refusal
 from nestarray.tokens import fault_position, tokens_of
@@ -91,7 +94,27 @@ def replace(v, path, w):
 
 def each(k, v):
     """0, then the array of v's shape whose items are made of v's items, as the kind k tells."""
-    return answered(lambda: outcome_answer(with_each(checked_kind(k), look_at(v))))
+    return answered(lambda: outcome_answer(with_each(checked_kind(k, 0, 6), look_at(v))))
+
+
+def pervade1(k, v):
+    """0, then v with every number replaced by what the kind k makes of it."""
+    return answered(lambda: outcome_answer(pervaded_alone(checked_kind(k, 0, 2), look_at(v))))
+
+
+def pervade(k, v, w):
+    """0, then what the kind k makes of v and w, all the way down to their numbers."""
+    return answered(lambda: outcome_answer(pervaded(checked_kind(k, 0, 4), look_at(v), look_at(w))))
+
+
+def split(v):
+    """0, then the vector of the cells along the first axis of v, whose rank has to be 2 or more."""
+    return answered(lambda: outcome_answer(split_up(look_at(v))))
+
+
+def mix(v):
+    """0, then the array whose cells along its first axis are the items of v, which has to be a vector."""
+    return answered(lambda: outcome_answer(mixed(look_at(v))))
 
 
 def answered(work):

@@ -1,18 +1,9 @@
 """The works that go item by item: a kind tells what is done with each item."""
 
-from nestarray.refusals import BigRefusal, KindRefusal
-from nestarray.values import LARGEST_NUMBER
-from nestarray.values import array_of, depth_of, extents_of, leaves_of, parts_of, product_of, rank_of, vector_of
+from nestarray.cells import parts_by_cell
+from nestarray.checks import checked_number
+from nestarray.values import array_of, depth_of, extents_of, leaves_of, parts_of, rank_of, vector_of
 from nestarray.works import raveled
-
-LAST_KIND = 6
-
-
-def checked_kind(kind):
-    """The kind itself, if it is one."""
-    if kind < 0 or kind > LAST_KIND:
-        raise KindRefusal()
-    return kind
 
 
 def with_each(kind, value):
@@ -28,7 +19,7 @@ def made_of(kind, value):
     if kind == 2:
         return raveled(value)
     if kind == 3:
-        return leaf_sum(value)
+        return checked_number(sum(leaves_of(value)))
     if kind == 4:
         return depth_of(value)
     if kind == 5:
@@ -41,13 +32,6 @@ def first_extent(value):
     return 1 if rank_of(value) == 0 else extents_of(value)[0]
 
 
-def leaf_sum(value):
-    total = sum(leaves_of(value))
-    if abs(total) > LARGEST_NUMBER:
-        raise BigRefusal()
-    return total
-
-
 def turned(value):
     """The array with the cells along its first axis in the opposite order."""
     if rank_of(value) == 0:
@@ -56,14 +40,6 @@ def turned(value):
     for cell in reversed(parts_by_cell(value)):
         parts.extend(cell)
     return array_of(extents_of(value), parts)
-
-
-def parts_by_cell(array):
-    """A list of the items of each cell along the first axis."""
-    extents = extents_of(array)
-    parts = parts_of(array)
-    count = product_of(extents[1:])
-    return [parts[place * count:(place + 1) * count] for place in range(extents[0])]
 
 
 def first_part(value):

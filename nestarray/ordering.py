@@ -1,7 +1,7 @@
 """The order of values: whether two are the same, which of them is first, and vectors in order."""
 
-from nestarray.refusals import RankRefusal
-from nestarray.values import is_number, parts_of, rank_of, vector_of
+from nestarray.checks import vector_parts
+from nestarray.values import is_number, vector_of
 from nestarray.works import skeleton_of
 
 
@@ -33,6 +33,4 @@ def first_of_two(one, other):
 
 def in_order(value):
     """The vector of a vector's items in order."""
-    if rank_of(value) != 1:
-        raise RankRefusal()
-    return vector_of(sorted(parts_of(value), key=standing_of))
+    return vector_of(sorted(vector_parts(value), key=standing_of))

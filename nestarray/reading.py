@@ -1,9 +1,9 @@
 """A text is looked at: its value, or the first refusal."""
 
-from nestarray.refusals import BigRefusal, FormRefusal, LimitRefusal, LongRefusal, ShapeRefusal
+from nestarray.checks import checked_number
+from nestarray.refusals import FormRefusal, LimitRefusal, LongRefusal, ShapeRefusal
 from nestarray.tokens import CLOSING, COLON, MINUS, OPENING, SIGNS, ZERO
 from nestarray.tokens import digits_start, fault_position, tokens_of
-from nestarray.values import LARGEST_NUMBER
 from nestarray.values import array_of, is_shape, is_within_limits, product_of
 
 LONGEST_TEXT = 8192
@@ -29,8 +29,8 @@ def check_length(text):
 
 def check_numbers(text, tokens):
     for start, end in tokens:
-        if text[start] not in SIGNS and abs(number_told(text, start, end)) > LARGEST_NUMBER:
-            raise BigRefusal()
+        if text[start] not in SIGNS:
+            checked_number(number_told(text, start, end))
 
 
 def number_told(text, start, end):

@@ -45,6 +45,14 @@ def parts_of(value):
     return [value] if is_number(value) else list(value.parts)
 
 
+def joined_parts(values):
+    """The items of all the values, in order."""
+    parts = []
+    for value in values:
+        parts.extend(parts_of(value))
+    return parts
+
+
 def rank_of(value):
     return len(extents_of(value))
 
@@ -79,6 +87,10 @@ def is_shape(extents):
     if len(extents) > MOST_EXTENTS:
         return False
     return product_of([extent for extent in extents if extent != 0]) <= LARGEST_PRODUCT
+
+
+def is_in_range(number):
+    return abs(number) <= LARGEST_NUMBER
 
 
 def is_within_limits(value):

@@ -19,10 +19,15 @@ def has_shapes(value):
     return is_shape(value.extents) and all([has_shapes(part) for part in value.parts])
 
 
-def skeleton_of(value):
+def with_numbers(value, number_for):
+    """A value that isn't deep, with another number for each of its numbers."""
     if is_number(value):
-        return 0
-    return array_of(extents_of(value), [skeleton_of(part) for part in parts_of(value)])
+        return number_for(value)
+    return array_of(extents_of(value), [with_numbers(part, number_for) for part in parts_of(value)])
+
+
+def skeleton_of(value):
+    return with_numbers(value, lambda number: 0)
 
 
 def enclosed(value):
