@@ -5,12 +5,15 @@ Where a work is handed several things, they are reckoned from left to right: the
 
 from nestarray.cells import mixed, split_up
 from nestarray.checks import checked_kind
+from nestarray.counted import with_counts
+from nestarray.flattening import flat_lists, from_flat_lists
 from nestarray.itemwise import with_each
 from nestarray.ordering import are_alike, are_same, first_of_two, in_order
 from nestarray.paths import picked, replaced, steps_of
 from nestarray.pervading import pervaded, pervaded_alone
 from nestarray.reading import check_length, look_at
 from nestarray.refusals import Refusal
+from nestarray.runs import packed, razed
 from nestarray.tokens import fault_position, tokens_of
 from nestarray.values import depth_of, extents_of, leaves_of, rank_of, size_of
 from nestarray.works import come_out, disclosed, enclosed, raveled, skeleton_of
@@ -115,6 +118,26 @@ def split(v):
 def mix(v):
     """0, then the array whose cells along its first axis are the items of v, which has to be a vector."""
     return answered(lambda: outcome_answer(mixed(look_at(v))))
+
+
+def pack(v, lengths):
+    """0, then the vector of vectors of these lengths with the items of v, which has to be a vector."""
+    return answered(lambda: outcome_answer(packed(look_at(v), lengths)))
+
+
+def raze(v):
+    """0, then the vector of all items of the items of v: vectors and numbers in a vector."""
+    return answered(lambda: outcome_answer(razed(look_at(v))))
+
+
+def flat(d, v):
+    """0, then the d flat lists of v, each with its length before it."""
+    return answered(lambda: [0] + with_counts(flat_lists(checked_kind(d, 1, 8), look_at(v))))
+
+
+def unflat(d, lists):
+    """0, then the value whose d flat lists are these, each with its length before it."""
+    return answered(lambda: outcome_answer(from_flat_lists(checked_kind(d, 1, 8), lists)))
 
 
 def answered(work):

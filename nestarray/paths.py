@@ -1,19 +1,15 @@
 """Paths: from an array to one of its items, step after step."""
 
+from nestarray.counted import counted_lists
 from nestarray.refusals import AtomRefusal, IndexRefusal, PathRefusal, ShapeRefusal
 from nestarray.values import array_of, extents_of, is_number, parts_of, rank_of
 
 
 def steps_of(path):
     """The indexes of a path, one for each of its steps."""
-    steps = []
-    start = 0
-    while start < len(path):
-        end = start + 1 + path[start]
-        if path[start] < 0 or end > len(path):
-            raise PathRefusal()
-        steps.append(path[start + 1:end])
-        start = end
+    steps = counted_lists(path)
+    if steps is None:
+        raise PathRefusal()
     return steps
 
 

@@ -71,8 +71,29 @@ class AtomRefusal(Refusal):
         Refusal.__init__(self, -9)
 
 
+class UnevenRefusal(Refusal):
+    """A value isn't vectors of vectors down to one depth."""
+
+    def __init__(self):
+        Refusal.__init__(self, -10)
+
+
+class DataRefusal(Refusal):
+    """A list of numbers isn't the flat lists of a value."""
+
+    def __init__(self):
+        Refusal.__init__(self, -11)
+
+
 class KindRefusal(Refusal):
     """No work is told by a number."""
 
     def __init__(self):
         Refusal.__init__(self, -12)
+
+
+class DomainRefusal(Refusal):
+    """A length is below 0."""
+
+    def __init__(self):
+        Refusal.__init__(self, -13)

@@ -3,7 +3,7 @@
 import unittest
 
 LONG, FORM, BIG, SHAPE, LIMIT, RANK, INDEX, PATH, ATOM = -1, -2, -3, -4, -5, -6, -7, -8, -9
-KIND = -12
+UNEVEN, DATA, KIND, DOMAIN = -10, -11, -12, -13
 
 TOP = 10 ** 18
 
@@ -25,6 +25,11 @@ class UntouchedList(list):
 def vector(parts):
     """The text of a vector with items of these texts."""
     return "[%d:%s]" % (len(parts), "".join(" " + part for part in parts))
+
+
+def text_in(answer):
+    """The text of the value that an answer brings."""
+    return bytes(answer[1:]).decode("ascii")
 
 
 def chain(depth):

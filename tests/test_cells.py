@@ -1,7 +1,7 @@
 """Promises 19 and 20: split and mix."""
 
 from nestarray.desk import mix, split
-from tests.support import LIMIT, RANK, SHAPE, CallCase, chain, sized, vector
+from tests.support import LIMIT, RANK, SHAPE, CallCase, chain, sized, text_in, vector
 
 
 def spread(extents, parts):
@@ -161,5 +161,4 @@ class MixTest(CallCase):
         parts = [str(number) for number in range(36)]
         for extents in ((36, 1), (1, 36), (6, 6), (2, 3, 6), (3, 12, 1), (2, 3, 3, 2), (9, 1, 4, 1)):
             array = spread(extents, parts)
-            cells = bytes(self.ask(split, array)[1:]).decode("ascii")
-            self.assert_value(mix, cells, array)
+            self.assert_value(mix, text_in(self.ask(split, array)), array)

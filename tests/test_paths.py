@@ -2,7 +2,7 @@
 
 from nestarray.desk import pick, replace
 from tests.support import ATOM, FIRST_REFUSED, INDEX, LIMIT, PATH, SHAPE, TOP, CallCase
-from tests.support import bytes_of, chain, sized, vector
+from tests.support import bytes_of, chain, sized, text_in, vector
 
 EXAMPLE = "[2: 1 [2: 2 3]]"
 
@@ -164,7 +164,7 @@ class ReplaceTest(CallCase):
         mark = "[1: %d]" % TOP
         for path, text in LEADS:
             answer = self.ask(replace, (MIXED, path, mark))
-            whole = bytes(answer[1:]).decode("ascii")
+            whole = text_in(answer)
             self.assertEqual((answer[0], len(whole)), (0, len(MIXED) - len(text) + len(mark)), path)
             self.assert_value(pick, (whole, path), mark)
             for other, other_text in LEADS:

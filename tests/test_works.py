@@ -4,7 +4,8 @@ from nestarray.desk import disclose, enclose, leaves, measure, skeleton
 from nestarray.refusals import LimitRefusal
 from nestarray.values import NestedArray
 from nestarray.works import come_out
-from tests.support import BIG, FORM, LIMIT, LONG, RANK, SHAPE, TOP, CallCase, bytes_of, chain, sized, vector
+from tests.support import BIG, FORM, LIMIT, LONG, RANK, SHAPE, TOP, CallCase
+from tests.support import bytes_of, chain, sized, text_in, vector
 
 CALLS = (leaves, skeleton, enclose, disclose)
 
@@ -123,7 +124,7 @@ class DiscloseTest(CallCase):
 
     def test_it_takes_back_what_enclose_does(self):
         for text in ("5", "[1: 5]", "[0:]", chain(7), sized(511), MANY):
-            self.assert_value(disclose, bytes(enclose(bytes_of(text))[1:]).decode("ascii"), text)
+            self.assert_value(disclose, text_in(enclose(bytes_of(text))), text)
 
 
 class ComeOutTest(CallCase):
